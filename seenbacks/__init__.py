@@ -1,0 +1,1 @@
+"""What each side knows of the cards."""
