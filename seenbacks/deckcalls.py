@@ -115,7 +115,44 @@ def peek(state, numbers):
     return [0, len(top)]
 
 
-DECK_CALLS = {0: begin, 5: draw, 6: mill, 7: shuffle, 8: cut, 9: order, 10: peek}
+def show_top(state, side):
+    """Show the top object of a side's deck to both sides, and tell its number."""
+    top = state.deck_of(side)[0]
+    state.show_to_both(top)
+    return top
+
+
+def until(state, numbers):
+    side = numbers[0]
+    there = count_there(state, side, numbers[2])
+    # Counted as if all of them were moved: else the refusal would tell of faces that nobody was shown.
+    if not state.has_room(there):
+        return [CAP_PASSED]
+    for passed in range(there):
+        top = show_top(state, side)
+        if state.pieces[top].face == numbers[1]:
+            state.move(top, TO_HAND, 0, SIDES)
+            return [0, 1, passed]
+        state.move(top, TO_VOID, 0, SIDES)
+    return [0, 0, there]
+
+
+def flip(state, numbers):
+    side = numbers[0]
+    there = count_there(state, side, 1)
+    if there == 0:
+        return [0, 0]
+    if not state.has_room(there):
+        return [CAP_PASSED]
+    top = show_top(state, side)
+    if state.pieces[top].face % 2 == 0:
+        state.move(top, TO_HAND, 0, SIDES)
+        return [0, 1]
+    state.move(top, TO_VOID, 0, SIDES)
+    return [0, 2]
+
+
+DECK_CALLS = {0: begin, 5: draw, 6: mill, 7: shuffle, 8: cut, 9: order, 10: peek, 14: until, 15: flip}
 
 
 def answer_deck_call(state, code, numbers):

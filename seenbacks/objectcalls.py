@@ -1,7 +1,7 @@
 """The calls that name one object. Their numbers are within the ranges when they come here."""
 
-from seenbacks.refusals import CAP_PASSED, ELSEWHERE, OUT_OF_RANGE, refusal_of_named
-from seenbacks.state import SIDES, TO_DECK, TO_FIELD, TO_RIFT, hand_zone
+from seenbacks.refusals import CAP_PASSED, ELSEWHERE, NOT_SEEN, OUT_OF_RANGE, refusal_of_named
+from seenbacks.state import SIDES, TO_DECK, TO_FIELD, TO_HAND, TO_RIFT, deck_zone, hand_zone
 
 
 def put(state, numbers):
@@ -31,7 +31,7 @@ def refusal_from_hand(state, side, number):
 def move_secretly(state, side, number, kind, place):
     """From a side's hand, so that the other one can't tell any more what is left there."""
     successor = state.move(number, kind, place, (side,))
-    state.forget_hand(1 - side, side)
+    state.forget_zone(1 - side, hand_zone(side))
     return successor
 
 
@@ -75,8 +75,7 @@ def show(state, numbers):
     refusal = refusal_of_named(state, [number])
     if refusal < 0:
         return [refusal]
-    for side in SIDES:
-        state.learn(side, number)
+    state.show_to_both(number)
     return [0]
 
 
@@ -89,7 +88,35 @@ def look(state, numbers):
     return [0]
 
 
-OBJECT_CALLS = {1: put, 2: away, 3: down, 4: up, 11: show, 12: look}
+def refusal_of_fetch(state, side, number):
+    """What is due, else 0, where a side is to take one object out of a deck."""
+    refusal = refusal_of_named(state, [number])
+    if refusal < 0:
+        return refusal
+    zone = state.pieces[number].zone
+    if zone != deck_zone(0) and zone != deck_zone(1):
+        return ELSEWHERE
+    if not state.sees(side, number):
+        return NOT_SEEN
+    if not state.has_room(1):
+        return CAP_PASSED
+    return 0
+
+
+def fetch(state, numbers):
+    side = numbers[0]
+    number = numbers[1]
+    refusal = refusal_of_fetch(state, side, number)
+    if refusal < 0:
+        return [refusal]
+    zone = state.pieces[number].zone
+    state.move(number, TO_HAND, 0, (side,))
+    # The other side can't tell which of the deck was taken, so of none that is left what it is.
+    state.forget_zone(1 - side, zone)
+    return [0]
+
+
+OBJECT_CALLS = {1: put, 2: away, 3: down, 4: up, 11: show, 12: look, 19: fetch}
 
 
 def is_object_call(code):

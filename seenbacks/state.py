@@ -77,6 +77,9 @@ class State:
     def is_given(self, number):
         return 1 <= number <= self.last
 
+    def is_card(self, number):
+        return self.pieces[number].card != NO_CARD
+
     def is_live(self, number):
         return self.pieces[number].zone != NOWHERE
 
@@ -100,8 +103,12 @@ class State:
     def learn(self, side, number):
         self.known[side][number] = True
 
-    def forget_hand(self, side, owner):
-        for number in self.hand_of(owner):
+    def show_to_both(self, number):
+        for side in SIDES:
+            self.learn(side, number)
+
+    def forget_zone(self, side, zone):
+        for number in self.zones[zone]:
             self.known[side].pop(number, None)
 
     def give(self, card, face, owner, kind, place):
@@ -114,7 +121,7 @@ class State:
 
     def goes_on(self, number, kind):
         """Whether a move of this kind makes a new object: a token lives on the field alone."""
-        return self.pieces[number].card != NO_CARD or kind == TO_FIELD
+        return self.is_card(number) or kind == TO_FIELD
 
     def move(self, number, kind, place, followers):
         """Tell the number that the object went on as, 0 if it has ceased."""

@@ -121,3 +121,67 @@ class Form(unittest.TestCase):
             if isinstance(node, ast.Attribute):
                 self.assertIn(node.attr, own | METHODS_OF_PYTHON, where)
                 self.assertNotIn(node.attr, NAMES_NOWHERE, where)
+
+    def test_parameters_and_annotations(self):
+        for where, node in self.nodes():
+            if isinstance(node, (ast.FunctionDef, ast.Lambda)):
+                plain = node.args
+                self.assertEqual((plain.vararg, plain.kwarg, plain.kwonlyargs, plain.posonlyargs),
+                                 (None, None, [], []), where)
+                self.assertEqual([arg.annotation for arg in plain.args if arg.annotation], [], where)
+
+    def test_is_beside_none_true_and_false_alone(self):
+        for where, node in self.nodes():
+            if isinstance(node, ast.Compare):
+                for sign, right in zip(node.ops, node.comparators):
+                    if isinstance(sign, (ast.Is, ast.IsNot)):
+                        self.assertIsInstance(right, ast.Constant, where)
+                        self.assertIn(repr(right.value), ("None", "True", "False"), where)
+
+    def test_top_of_a_module(self):
+        for file, tree in self.trees.items():
+            for at, node in enumerate(tree.body):
+                docstring = at == 0 and isinstance(node, ast.Expr) and isinstance(node.value, ast.Constant)
+                self.assertTrue(docstring or isinstance(
+                    node, (ast.ImportFrom, ast.FunctionDef, ast.ClassDef, ast.Assign)), f"{file}:{node.lineno}")
+                if isinstance(node, ast.Assign):
+                    inner = list(ast.walk(node.value))[1:]
+                    self.assertEqual([part for part in inner if isinstance(part, (ast.List, ast.Dict, ast.Call))], [],
+                                     f"{file}:{node.lineno}")
+
+    def test_lists_and_dicts_of_the_top_are_only_read(self):
+        kept = {node.targets[0].id for tree in self.trees.values() for node in tree.body
+                if isinstance(node, ast.Assign) and isinstance(node.value, (ast.List, ast.Dict))}
+        self.assertIn("BOUNDS", kept)
+        for where, node in self.nodes():
+            if isinstance(node, ast.Attribute) and isinstance(node.value, ast.Name):
+                self.assertFalse(node.value.id in kept and node.attr not in ("get", "items", "keys", "values"), where)
+            if isinstance(node, ast.Subscript) and isinstance(node.value, ast.Name) and node.value.id in kept:
+                self.assertIsInstance(node.ctx, ast.Load, where)
+            if isinstance(node, ast.ImportFrom):
+                self.assertEqual([alias.name for alias in node.names if alias.name in kept], [], where)
+
+    def test_no_file_draws_from_itself_in_any_steps(self):
+        draws = {name: {node.module.split(".")[1] + ".py" for node in tree.body if isinstance(node, ast.ImportFrom)}
+                 for name, tree in self.trees.items()}
+        for name in draws:
+            reached = set()
+            waiting = set(draws[name])
+            while waiting:
+                source = waiting.pop()
+                if source not in reached:
+                    reached.add(source)
+                    waiting |= draws[source]
+            self.assertNotIn(name, reached)
+
+    def test_no_name_is_a_method_here_and_a_value_there(self):
+        methods = set()
+        given = set()
+        for where, node in self.nodes():
+            if isinstance(node, ast.ClassDef):
+                methods |= {part.name for part in node.body if isinstance(part, ast.FunctionDef)}
+            if isinstance(node, ast.Attribute) and isinstance(node.ctx, ast.Store):
+                given.add(node.attr)
+        self.assertEqual(methods & given, set())
+        own_of_python = {name for kind in (str, int, list, dict, set, bytes) for name in dir(kind)}
+        self.assertEqual((methods | given) & own_of_python - {"__init__"}, set())

@@ -91,8 +91,8 @@ class AfterAwayAndDown(GameCase):
             self.start()
             self.ok(3, 0, 8, kind)
             self.assert_known([5, 11], [4, 6])
-            self.assertFalse(self.game.state.sees(1, 11))
-            self.assertTrue(self.game.state.sees(0, 11))
+            self.assertEqual(self.ok(21, 1, 11), [0, 0])
+            self.assertEqual(self.ok(21, 0, 11), [0, 1, 101])
 
     def test_away_and_down_of_the_second_side(self):
         for code, behind in ((2, 0), (3, 3)):

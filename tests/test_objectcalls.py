@@ -96,7 +96,7 @@ class PutToken(GameCase):
     def test_ceases_off_the_field(self):
         self.game.begin(0, 0, 0, 9)
         for kind in (0, 1, 2, 4, 5):
-            number = self.game.add_token(1, 7)
+            number = self.ok(18, 1, 7, 1)[1]
             self.ok(1, number, kind, 0)
             self.assertEqual(self.game.live(), [])
             self.assertEqual(self.game.state.last, number)
@@ -105,8 +105,8 @@ class PutToken(GameCase):
 
     def test_goes_on_upon_the_field(self):
         self.game.begin(0, 0, 0, 3)
-        self.game.add_token(1, 7)
-        self.game.add_token(0, 8)
+        self.ok(18, 1, 7, 1)
+        self.ok(18, 0, 8, 1)
         self.ok(1, 1, 3, 0)
         self.assert_zone(6, [2, 3])
         self.assertEqual(self.game.faces(6), [8, 7])
@@ -114,7 +114,7 @@ class PutToken(GameCase):
 
     def test_cap_is_asked_only_where_it_goes_on(self):
         self.game.begin(0, 0, 0, 1)
-        self.game.add_token(0, 7)
+        self.ok(18, 0, 7, 1)
         self.refused(-8, 1, 1, 3, 0)
         self.ok(1, 1, 0, 0)
         self.assertEqual(self.game.live(), [])
